@@ -1,0 +1,1 @@
+"""Mendworth: how long a file outlives the falls of its keepers."""
