@@ -2,8 +2,8 @@ import unittest
 
 from mendworth.errors import InvalidModulus, InvalidSize, InvalidVector
 from mendworth.spaces import Space
-from tests.helper import (GREATEST, LEAST, NO_NUMBERS, NO_PAIRS, is_within, luck, raised, random_rows, rank_of, sameness,
-                          summed)
+from tests.helper import (GREATEST, LEAST, NO_NUMBERS, NO_PAIRS, is_within, luck, raised, random_rows, rank_of,
+                          sameness, summed)
 
 # The second row is three times the first one, the last one the sum of the first and the fourth.
 ROWS = [[0, 2, 4, 0, 6], (0, 6, 12, 0, 18), [0, 0, 0, 0, 0], [0, 1, 2, 5, 1], (0, 3, 6, 5, 7)]
@@ -289,6 +289,14 @@ class Unchanging(unittest.TestCase):
         self.assertIs([0, 2, 4, 0, 6] in space, True)
         self.assertEqual(rows, [list(row) for row in ROWS])
         self.assertTrue(all(row.__class__ is list for row in rows))
+
+    def test_what_is_asked_for_stays(self):
+        space = Space(LEAST, 5, ROWS)
+        for vector in ([9, 1, 2, 0, 3], [0, 2, 4, 0, 6]):
+            before = list(vector)
+            self.assertIs(vector in space, vector[0] == 0)
+            self.assertEqual(vector, before)
+        self.assertEqual(space.basis(), BASIS)
 
     def test_later_changes_of_what_was_passed(self):
         for kind in (list, tuple):
