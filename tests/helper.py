@@ -1,6 +1,7 @@
-"""What several tests need: values of all kinds, and a second, plain way to tell spaces."""
+"""What several tests need: values of all kinds, and a second, plain way to tell spaces, worths and papers."""
 
 import random
+from itertools import combinations, permutations
 
 LEAST = 10007
 GREATEST = 999983
@@ -13,10 +14,28 @@ NO_PAIRS = (None, True, False, 0, 7, 10007, "", "12", "ab", {}, {0: 1, 1: 2}, {1
             [False, 0], [0, False], (None, 1), (1, None), ("1", "2"), [1, "2"], ((1,), (2,)), [[1, 2]], [[0], [0]],
             ((0, 0), (0, 0)), [1, {}], [{"a": 1}, 1])
 
+# Each is no number from 1 to 6.
+NO_AMOUNTS = (None, True, False, 0, -1, 7, 60, -10 ** 30, 10 ** 30, "", "1", "a", (), (1,), [], [1], {}, {1: 1},
+              [[(None, {"a": [1]})]])
+
+# Each is no name, whatever the book.
+NO_NAMES = (None, True, False, 0, 1, "", "A", "aB", "Ab", "a1", "1", "a b", " a", "a ", "a\n", "\n", "a-b", "a_b",
+            "a=1", "`", "{", "aaaaaaaaa", "abcdefghi", "a" * 9000, (), ("a",), [], ["a"], {}, {"a": 1},
+            [[(None, {"a": [1]})]])
+
 
 def sameness(value):
     """A text that two values share only if they are equal and of the same kinds at any depth."""
     return repr(value)
+
+
+def kinds(value):
+    """As sameness, but in whichever order the keys of dicts were put in."""
+    if isinstance(value, dict):
+        return "{" + ", ".join(sorted(f"{kinds(key)}: {kinds(value[key])}" for key in value)) + "}"
+    if isinstance(value, (list, tuple)):
+        return value.__class__.__name__ + "(" + ", ".join(kinds(item) for item in value) + ")"
+    return sameness(value)
 
 
 def luck(seed):
@@ -62,3 +81,63 @@ def raised(test, error, call, *values, **named):
         call(*values, **named)
     test.assertIs(caught.exception.__class__, error)
     return caught.exception
+
+
+def lucky_keepers(dice, many, most_calls, most_letters=6):
+    """Random keepers of a book, some of them steady."""
+    names = sorted(dice.sample(["a", "b", "c", "dd", "ed", "f", "longname", "z"], many), key=lambda name: dice.random())
+    return [(name, dice.randint(1, most_letters),
+             [{helper: dice.randint(1, most_letters) for helper in lucky_helpers(dice, names, name)}
+              for _ in range(dice.randint(0, most_calls) if many > 1 else 0)]) for name in names]
+
+
+def lucky_helpers(dice, names, name):
+    others = [other for other in names if other != name]
+    return dice.sample(others, dice.randint(1, len(others)))
+
+
+def full_keepers(dice, most_letters=6):
+    """Seven keepers with twenty calls each."""
+    names = list("gfedcba")
+    return [(name, dice.randint(1, most_letters),
+             [{helper: dice.randint(1, most_letters) for helper in lucky_helpers(dice, names, name)}
+              for _ in range(20)]) for name in names]
+
+
+def lots_in_order(names):
+    """All lots, shorter ones first, equally long ones by the positions of the names."""
+    return [lot for many in range(len(names) + 1) for lot in combinations(names, many)]
+
+
+def brings(keepers, name, lot):
+    """What a keeper brings to a lot, as the document defines it."""
+    _, keep, calls = next(keeper for keeper in keepers if keeper[0] == name)
+    return min([keep] + [sum(call[helper] for helper in call if helper not in lot) for call in calls])
+
+
+def least_sums(keepers, falls):
+    """For each lot, as a frozenset, the least sum along an order in which some keepers stand ahead and do not fall."""
+    names = [keeper[0] for keeper in keepers]
+    keeps = {name: keep for name, keep, _ in keepers}
+    known = {(name, lot): brings(keepers, name, lot) for name in names for lot in map(frozenset, lots_in_order(names))}
+    most = len(names) if falls is None else falls
+    found = {}
+    for lot in lots_in_order(names):
+        sums = []
+        for many in range(min(most, len(lot)) + 1):
+            for order in permutations(lot, many):
+                ahead = frozenset(lot) - frozenset(order)
+                total = sum(keeps[name] for name in ahead)
+                for name in order:
+                    total += known[name, ahead]
+                    ahead |= {name}
+                sums.append(total)
+        found[frozenset(lot)] = min(sums)
+    return found
+
+
+def plain_worths(keepers, falls=None):
+    """The worths of all lots, as the document defines them."""
+    sums = least_sums(keepers, falls)
+    return {lot: min(sums[greater] for greater in sums if greater >= set(lot))
+            for lot in lots_in_order([keeper[0] for keeper in keepers])}
