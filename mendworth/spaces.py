@@ -14,6 +14,12 @@ def is_vector_of(value, modulus, size):
     return is_vector(value, modulus) and len(value) == size
 
 
+def are_vectors_of(value, many, modulus, size):
+    """Whether any value is a list of so many vectors of this length."""
+    return (isinstance(value, (list, tuple)) and len(value) == many
+            and all([is_vector_of(item, modulus, size) for item in value]))
+
+
 def check_size(size):
     """Raises an error unless a value is a length that the vectors of a space may have."""
     if not is_number(size) or size < 0 or size > Space.MOST:
@@ -31,6 +37,26 @@ def check_match(one, other):
     """Raises an error unless two spaces have equal modulus and size."""
     if one.modulus != other.modulus or one.size != other.size:
         raise Mismatch()
+
+
+def product_of(one, other, modulus):
+    """The sum of the products of the letters of two vectors of one length."""
+    return sum([left * right for left, right in zip(one, other)]) % modulus
+
+
+def sum_of(factors, vectors, modulus):
+    """The sum of one or more vectors of one length times factors, a tuple."""
+    return tuple([product_of(factors, column, modulus) for column in zip(*vectors)])
+
+
+def powers(base, many, modulus):
+    """A vector of so many powers of a letter, from 1 on."""
+    row = []
+    letter = 1
+    for _ in range(many):
+        row.append(letter)
+        letter = letter * base % modulus
+    return tuple(row)
 
 
 def lead(row):
@@ -57,10 +83,11 @@ def cleared_at(row, at, pivot, modulus):
 
 def cleared(vector, basis, modulus):
     """What is left of a vector, a tuple, when a reduced basis has made it 0 at each of its leads."""
-    rest = tuple(vector)
-    for pivot in basis:
-        rest = cleared_at(rest, lead(pivot), pivot, modulus)
-    return rest
+    if not basis:
+        return tuple(vector)
+    # At the lead of a row all other rows have 0, so none of them changes how many times the row is to be taken.
+    taken = sum_of([vector[lead(row)] for row in basis], basis, modulus)
+    return tuple([(letter - less) % modulus for letter, less in zip(vector, taken)])
 
 
 def basis_with(basis, row, modulus):
@@ -73,14 +100,18 @@ def basis_with(basis, row, modulus):
     return sorted(others + [pivot], reverse=True)
 
 
-def reduced_basis(rows, modulus):
-    """The reduced basis of the space that some rows make, a list of tuples."""
-    basis = []
+def widened(basis, rows, modulus):
+    """The reduced basis behind some more rows."""
     for row in rows:
         rest = cleared(row, basis, modulus)
         if any(rest):
             basis = basis_with(basis, rest, modulus)
     return basis
+
+
+def reduced_basis(rows, modulus):
+    """The reduced basis of the space that some rows make, a list of tuples."""
+    return widened([], rows, modulus)
 
 
 def orthogonal_row(basis, modulus, size, at):

@@ -39,6 +39,11 @@ def lots_by_place(book):
     return lots
 
 
+def lots_by_length(book):
+    """All lots as they are told, shorter ones first, equally long ones by the positions of their names."""
+    return [tuple(names) for many in range(len(book) + 1) for names in choices(book.names(), many)]
+
+
 def place_of(book, lot):
     """The place of a lot in any order."""
     return sum([1 << at for at, name in enumerate(book) if name in lot])
@@ -142,12 +147,10 @@ def readers(book, size, *, falls=None):
     if not is_number(size) or size < 1:
         raise InvalidSize(size)
     table = worths(book, falls=falls)
-    for many in range(len(book) + 1):
-        for names in choices(book.names(), many):
-            lot = tuple(names)
-            # No lot has more than a greater one, so those with one keeper less stand for all within it.
-            if table[lot] >= size and all([table[lot[:at] + lot[at + 1:]] < size for at in range(many)]):
-                yield lot
+    for lot in lots_by_length(book):
+        # No lot has more than a greater one, so those with one keeper less stand for all within it.
+        if table[lot] >= size and all([table[lot[:at] + lot[at + 1:]] < size for at in range(len(lot))]):
+            yield lot
 
 
 def longest_file(book, *lots, falls=None):

@@ -1,7 +1,9 @@
-"""What several tests need: values of all kinds, and a second, plain way to tell spaces, worths and papers."""
+"""What several tests need: values of all kinds, and a second, plain way to tell what the package tells."""
 
 import random
 from itertools import combinations, permutations
+
+from mendworth.worths import worths
 
 LEAST = 10007
 GREATEST = 999983
@@ -141,3 +143,53 @@ def plain_worths(keepers, falls=None):
     sums = least_sums(keepers, falls)
     return {lot: min(sums[greater] for greater in sums if greater >= set(lot))
             for lot in lots_in_order([keeper[0] for keeper in keepers])}
+
+
+# Each is no modulus.
+NO_MODULI = (*NO_NUMBERS, 0, 1, 2, 7, -10007, 10006, 10008, 10013, 1000003, 999981, 10 ** 30 + 57)
+
+
+def no_rows(modulus, many, size):
+    """Values of all kinds, each of which is no list of so many vectors of this length."""
+    row = [1] * size
+    rows = [list(row) for _ in range(many)]
+    wrong = [row[:-1], [*row, 0], None, True, False, 0, 7, "", "1" * size, {}, {0: 1}, {at: 1 for at in range(size)}]
+    wrong += [[*row[:at], letter, *row[at + 1:]] for at in range(size)
+              for letter in (-1, modulus, 10 ** 30, True, False, None, "1", (), [1], {})]
+    return [None, True, False, 0, 1, many, "", "1", "1" * many, {}, {0: row}, {at: row for at in range(many)},
+            rows[1:], [*rows, row], row * 7, [[(None, {"a": [1]})]],
+            *[[*rows[:at], value, *rows[at + 1:]] for at in range(many) for value in wrong],
+            *[tuple([*rows[:at], value, *rows[at + 1:]]) for at in range(many) for value in wrong]]
+
+
+def rows_in(code, lot):
+    """The vectors of a lot of a code, in one list."""
+    return [vector for name in lot for vector in code.table()[name]]
+
+
+def least_ranks(code):
+    """The rank that each lot must have if the code is to be sound."""
+    table = worths(code.book)
+    return {lot: min(table[lot], code.size) for lot in table}
+
+
+def plain_weak_lots(code):
+    """All weak lots of a code, in the order of readers."""
+    least = least_ranks(code)
+    return [lot for lot in lots_in_order(code.book.names()) if rank_of(code.modulus, rows_in(code, lot)) < least[lot]]
+
+
+def lucky_rows(dice, book, modulus, size):
+    return {name: random_rows(dice, modulus, size, book.keep(name)) for name in book}
+
+
+def lucky_falls(dice, book, many):
+    """A random history; no falls if no keeper has a call."""
+    pairs = [(name, at) for name in book for at in range(len(book.calls(name)))]
+    return [dice.choice(pairs) for _ in range(many)] if pairs else []
+
+
+def letters_of(code, file):
+    """What the keepers keep of a file."""
+    return {name: [sum(a * b for a, b in zip(row, file, strict=True)) % code.modulus for row in rows]
+            for name, rows in code.table().items()}
