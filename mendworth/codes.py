@@ -45,11 +45,16 @@ def first_weak(book, size, bases):
     return weak[0] if weak else None
 
 
-def check_sound(book, size, bases):
+def check_bases(book, size, bases):
     """Raises an error for the first weak lot of a code whose lots have these reduced bases."""
     lot = first_weak(book, size, bases)
     if lot is not None:
         raise Weak(lot)
+
+
+def check_sound(code):
+    """Raises an error for the first weak lot of a code."""
+    check_bases(code.book, code.size, bases_of_lots(code))
 
 
 class Code:
@@ -116,7 +121,7 @@ class Code:
         """The code without a keeper, which must be sound for the book without it."""
         book = self._book.without_keeper(name)
         rest = Code(book, self._modulus, self._size, {other: self._vectors[other] for other in book})
-        check_sound(book, self._size, bases_of_lots(rest))
+        check_sound(rest)
         return rest
 
     def __eq__(self, other):

@@ -14,6 +14,14 @@ def is_number(value):
     return isinstance(value, int) and not isinstance(value, bool)
 
 
+def is_numeral(word):
+    """Whether a string tells a number of at most six digits without leading zeros."""
+    # All that is told in this way, a modulus, a size, an index or a letter, has no more digits.
+    if not 1 <= len(word) <= 6 or not all(["0" <= digit <= "9" for digit in word]):
+        return False
+    return word == "0" or word[0] != "0"
+
+
 def is_modulus(value):
     """Whether any value is a modulus: a prime from LEAST_MODULUS to GREATEST_MODULUS."""
     if not is_number(value) or value < LEAST_MODULUS or value > GREATEST_MODULUS:

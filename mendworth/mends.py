@@ -1,6 +1,6 @@
 """Mends: what is sent and kept when a keeper falls, and how it is chosen such that the code stays sound."""
 
-from mendworth.codes import Code, bases_of_lots, check_sound, ranks_of_sound_code
+from mendworth.codes import Code, bases_of_lots, check_bases, ranks_of_sound_code
 from mendworth.errors import InvalidFall, Steady, copied
 from mendworth.papers import Paper, is_fall
 from mendworth.spaces import are_vectors_of, basis_with, cleared, powers, sum_of
@@ -169,7 +169,7 @@ def mend(code, name, at=0):
         raise Steady(name)
     code.book.call(name, at)
     bases = bases_of_lots(code)
-    check_sound(code.book, code.size, bases)
+    check_bases(code.book, code.size, bases)
     return chosen_mend(code, name, at, bases)
 
 
@@ -187,7 +187,7 @@ def admission(code, name, keep, call, *calls):
     """A mend that makes the vectors of one more keeper."""
     book = code.book.with_keeper(name, keep, call, *calls)
     bases = bases_of_lots(code)
-    check_sound(code.book, code.size, bases)
+    check_bases(code.book, code.size, bases)
     table = code.table()
     table[name] = [(0,) * code.size] * keep
     return chosen_mend(Code(book, code.modulus, code.size, table), name, 0, bases)

@@ -193,3 +193,18 @@ def letters_of(code, file):
     """What the keepers keep of a file."""
     return {name: [sum(a * b for a, b in zip(row, file, strict=True)) % code.modulus for row in rows]
             for name, rows in code.table().items()}
+
+
+def code_told(code):
+    return None if code is None else [code.modulus, code.size, code.book.text(), code.table()]
+
+
+def held_by(vault):
+    """All that a vault tells of its book, its code and its letters."""
+    letters = None if vault.present is None else {name: vault.letters(name) for name in vault.book}
+    return kinds([vault.modulus, vault.book.text(), code_told(vault.present), letters])
+
+
+def told_by(vault):
+    """All that a vault tells."""
+    return kinds([held_by(vault), vault.history(), vault.busy, vault.limit, vault.kept(), vault.computed])
