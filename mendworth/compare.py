@@ -2,7 +2,7 @@
 
 from mendworth.books import MOST_LETTERS
 from mendworth.errors import Differ
-from mendworth.worths import brought_by, check_lot, lots_by_length, worth, worths
+from mendworth.worths import brought_by, lots_by_length, worth, worths
 
 
 def first_greater(book, table, other):
@@ -93,7 +93,6 @@ def with_letter(book, spot):
 
 def helpful(book, *lot):
     """The spots at which one letter more raises the worth of a lot, in order."""
-    check_lot(book, lot)
     least = worth(book, *lot)
     bringing = {name: brought_by(book, name) for name in book}
     found = []
