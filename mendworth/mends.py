@@ -1,4 +1,16 @@
-"""Mends: what is sent and kept when a keeper falls, and how it is chosen such that the code stays sound."""
+"""Mends: what is sent and kept when a keeper falls, and how it is chosen such that the code stays sound.
+
+A lot without the fallen keeper needs, with the newcomer, the rank of the worth of both, or of the size if that is
+less. It is short as long as it has not this rank. Why no lot stays short behind a chosen mend:
+
+Each vector that is sent widens every short lot that has not all vectors of the helper. Add to a lot all helpers whose
+vectors are in its space behind all that is sent: the greater lot has the same space there. If it was short all the
+time, then each vector from outside of it has widened it, and it has got as many letters as the keeper brings to it,
+or more. In a sound code this is all that it needs, and so all that the lot needs.
+
+Each vector that is kept widens every short lot, since none has all that is sent. So a lot gets what it needs, or as
+many letters as the newcomer keeps; and the keeper brings no more.
+"""
 
 from mendworth.codes import Code, bases_of_lots, check_bases, ranks_of_sound_code
 from mendworth.errors import InvalidFall, Steady, copied

@@ -153,10 +153,11 @@ class Vault:
 
     def worth(self, *lot):
         """The worth of a lot, which is kept until the book becomes a different one."""
-        check_lot(self.book, lot)
-        told = as_told(self.book, lot)
+        book = self.book
+        check_lot(book, lot)
+        told = as_told(book, lot)
         if told not in self._worths:
-            self._worths[told] = worth(self.book, *told)
+            self._worths[told] = worth(book, *told)
             self._computed = self._computed + 1
         return self._worths[told]
 
